@@ -1,4 +1,4 @@
-"""What several files ask of a value: whether it is a number, a list, or a tuple of so many parts."""
+"""What several files ask of values: whether one is a number, a list or such, whether several rise or are unlike."""
 
 
 def is_number(value, least):
@@ -15,6 +15,11 @@ def is_list(value):
 def is_tuple_of(value, many):
     """Whether value is a tuple of so many parts."""
     return isinstance(value, tuple) and len(value) == many
+
+
+def are_unlike(values):
+    """Whether none of the values stands there twice."""
+    return len(set(values)) == len(values)
 
 
 def are_rising(numbers):

@@ -1,6 +1,6 @@
 """Deeds: the tuples by which buyings, spendings and the like are told."""
 
-from pointpurse.checks import is_number, is_tuple_of
+from pointpurse.checks import are_unlike, is_number, is_tuple_of
 from pointpurse.errors import BadDeed
 from pointpurse.houses import is_name
 
@@ -47,7 +47,7 @@ def are_unlike_names(names):
     """Whether names are up to eight names, none of them twice."""
     if not isinstance(names, tuple) or len(names) > MOST_IN_A_LIST:
         return False
-    return all([is_name(name) for name in names]) and len(set(names)) == len(names)
+    return all([is_name(name) for name in names]) and are_unlike(names)
 
 
 def is_value_of(part, value):
@@ -75,6 +75,12 @@ def has_its_parts(deed):
 def named_parts(deed):
     """The parts of a deed behind its word, by their names."""
     return dict(zip(parts_of(deed[0]), deed[1:]))
+
+
+def place_of(deed):
+    """The pair (day, ref) by which deeds are done; a fix has no place."""
+    parts = named_parts(deed)
+    return (parts["day"], parts["ref"])
 
 
 def go_together(parts):

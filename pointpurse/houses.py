@@ -1,6 +1,6 @@
 """Names, and houses: what a house gives for buyings and how it keeps its points."""
 
-from pointpurse.checks import are_rising, is_list, is_number, is_tuple_of
+from pointpurse.checks import are_rising, are_unlike, is_list, is_number, is_tuple_of
 from pointpurse.errors import BadHouse
 
 LONGEST_NAME = 8
@@ -44,7 +44,7 @@ def check_kinds(kinds):
     for kind, factor in kinds:
         demand(is_name(kind), "a kind is no name")
         demand(is_number(factor, 0), "a kind's factor is no number, or too low")
-    demand(len(set([kind for kind, factor in kinds])) == len(kinds), "a kind is told twice")
+    demand(are_unlike([kind for kind, factor in kinds]), "a kind is told twice")
 
 
 def check_leasts(pairs, lowest, words):

@@ -9,6 +9,11 @@ def with_points(pile, points):
     return (pile[0], pile[1], pile[2], points)
 
 
+def with_mark(pile, mark):
+    """A pile like this one, but with this mark."""
+    return (pile[0], pile[1], mark, pile[3])
+
+
 def laid(row, piles):
     """The row with these piles put in, those of one (born, source, mark) as one pile."""
     many = {}
