@@ -27,6 +27,22 @@ class State:
         self.lendings = {}
 
 
+def twin_of(book, state):
+    """A State like this one, which may be walked on: none of its lists and dicts is this one's."""
+    twin = State(book)
+    twin.day = state.day
+    twin.rows = dict([(purse, list(row)) for purse, row in state.rows.items()])
+    twin.debts = dict([(purse, list(debts)) for purse, debts in state.debts.items()])
+    twin.earned = dict(state.earned)
+    twin.ends = list(state.ends)
+    twin.owed = list(state.owed)
+    twin.odds = dict(state.odds)
+    twin.backs = dict(state.backs)
+    twin.stirs = dict(state.stirs)
+    twin.lendings = dict(state.lendings)
+    return twin
+
+
 def lay(state, purse, piles):
     """Put piles into a purse's row; one of no points is not laid."""
     state.rows[purse] = laid(state.rows[purse], [pile for pile in piles if pile[3] > 0])
